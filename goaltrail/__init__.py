@@ -1,0 +1,1 @@
+"""Goaltrail: goals asked by rules, in two ways, with tables and reasons."""
