@@ -37,6 +37,11 @@ def listed(*things):
     return cons(*things, NIL)
 
 
+def count_parts(term):
+    """How many parts a term has, counted in the plainest way."""
+    return 1 + sum(count_parts(kid) for kid in term[2]) if term[0] == "app" else 1
+
+
 def assert_refused(case, name, call, *arguments, row=0):
     """The call is refused with the error class of this name, and with no other one."""
     with case.assertRaises(errors.TrailError) as told:
