@@ -1,6 +1,8 @@
 """What the tests share: terms written by hand, and how a refusal is looked at."""
 
 from goaltrail import errors
+from goaltrail.reader import read, read_goals, read_rule
+from goaltrail.signs import first_signs
 
 REFUSALS = ("NoText", "NoSign", "NoRule", "Big", "HasKeep", "NotLayered", "Fault")
 
@@ -35,6 +37,49 @@ def cons(*things):
 
 def listed(*things):
     return cons(*things, NIL)
+
+
+def term_of(text):
+    return read(text, first_signs())
+
+
+def goals_of(text):
+    return read_goals(text, first_signs()) if text else []
+
+
+def rules_of(*texts):
+    """Rules as they are told for the searcher: tuples of a head and a tuple of goals."""
+    told = [read_rule(text, first_signs()) for text in texts]
+    return [(head, tuple(goals)) for head, goals in told]
+
+
+def nested(many):
+    """A term of so many parts, each within the next one."""
+    term = A
+    for again in range(many - 1):
+        term = t("f", term)
+    return term
+
+
+def chain(many, last):
+    """X0 to X1 to X2 .., the last one to a term."""
+    puts = {f"X{k}": v(f"X{k + 1}") for k in range(many - 1)}
+    puts[f"X{many - 1}"] = last
+    return puts
+
+
+def doubled(many, name="X"):
+    """Each unknown put in for twice the next one: X0 reads with 2 ** (many + 1) - 1 parts."""
+    return {f"{name}{k}": t("f", v(f"{name}{k + 1}"), v(f"{name}{k + 1}")) for k in range(many)}
+
+
+def plainly_put(term, puts):
+    """How a term reads by puttings-in, in the plainest way."""
+    if term[0] == "any" and term[1] in puts:
+        return plainly_put(puts[term[1]], puts)
+    if term[0] == "app":
+        return t(term[1], *[plainly_put(kid, puts) for kid in term[2]])
+    return term
 
 
 def count_parts(term):

@@ -40,6 +40,7 @@ EXPRESSIONS = (
 PLAIN = (ast.Constant, ast.List, ast.Tuple, ast.Dict, ast.Name, ast.USub, ast.UnaryOp, ast.Load)
 WALKED = {"range", "zip", "enumerate", "reversed"}
 WALKERS = {"list", "tuple", "dict", "sorted", "sum", "any", "all", "enumerate", "zip", "min", "max", "join"}
+CHANGERS = {"append", "clear", "extend", "insert", "pop", "remove", "reverse", "setdefault", "update"}
 BUILTIN_METHODS = set()
 for sort in (str, int, list, dict, set, bytes, tuple):
     BUILTIN_METHODS.update(name for name in dir(sort) if not name.startswith("__"))
@@ -139,6 +140,9 @@ def expression_faults(node):
             faults.append(f"L7: line {node.lineno}")
         if isinstance(node.value, str) and "%" in node.value:
             faults.append(f"L27: line {node.lineno}")
+    if isinstance(node, ast.BinOp) and isinstance(node.op, ast.Pow):
+        if not (isinstance(node.right, ast.Constant) and 0 <= node.right.value <= 64):
+            faults.append(f"L27: line {node.lineno}")
     if isinstance(node, ast.ListComp) and (len(node.generators) > 1 or len(node.generators[0].ifs) > 1):
         faults.append(f"L7: line {node.lineno}")
     if isinstance(node, ast.FormattedValue) and (not isinstance(node.value, ast.Name) or node.format_spec):
@@ -148,6 +152,46 @@ def expression_faults(node):
         if not any(isinstance(side, ast.Constant) and side.value in (None, True, False) for side in sides):
             faults.append(f"L20: line {node.lineno}")
     return faults
+
+
+def changed_faults(tree):
+    """What a loop walks is not changed in it (L23)."""
+    faults = []
+    for loop in ast.walk(tree):
+        if isinstance(loop, ast.For):
+            walked = ast.dump(loop.iter.args[0] if called_name(loop.iter) in WALKED - {"range"} else loop.iter)
+            for node in ast.walk(loop):
+                method = isinstance(node, ast.Call) and isinstance(node.func, ast.Attribute)
+                changed = node.func.value if method and node.func.attr in CHANGERS else None
+                if isinstance(node, ast.Subscript) and isinstance(node.ctx, ast.Store):
+                    changed = node.value
+                if changed is not None and ast.dump(changed) == walked:
+                    faults.append(f"L23: line {node.lineno}")
+    return faults
+
+
+def taken_faults(node):
+    """Which error classes are taken, and how an error is raised (L19)."""
+    faults = []
+    if isinstance(node, ast.ExceptHandler):
+        taken = node.type.elts if isinstance(node.type, ast.Tuple) else [node.type]
+        if any(getattr(name, "id", "Exception") in ("Exception", "TypeError") for name in taken):
+            faults.append(f"L19: line {node.lineno}")
+    if isinstance(node, ast.Raise) and not isinstance(node.exc, ast.Call):
+        faults.append(f"L19: line {node.lineno}")
+    return faults
+
+
+def members(tree):
+    """The methods of a file's classes, and the values that are given to objects in it."""
+    methods = set()
+    values = set()
+    for node in ast.walk(tree):
+        if isinstance(node, ast.ClassDef):
+            methods.update(part.name for part in node.body if isinstance(part, ast.FunctionDef))
+        if isinstance(node, ast.Attribute) and isinstance(node.ctx, ast.Store):
+            values.add(node.attr)
+    return methods, values
 
 
 def walk_faults(tree):
@@ -183,6 +227,8 @@ def name_faults(tree):
         name = node.arg if isinstance(node, ast.arg) else ""
         if isinstance(node, ast.Name) and isinstance(node.ctx, ast.Store):
             name = node.id
+        if isinstance(node, ast.ExceptHandler):
+            name = node.name or ""
         if name:
             bound.add(name)
             if name in reserved:
@@ -202,7 +248,9 @@ def name_faults(tree):
 def file_faults(text):
     tree = ast.parse(text)
     faults = text_faults(text) + top_faults(tree) + name_faults(tree) + walk_faults(tree)
+    faults.extend(changed_faults(tree))
     for node in ast.walk(tree):
+        faults.extend(taken_faults(node))
         if isinstance(node, ast.FunctionDef):
             faults.extend(def_faults(node))
         if isinstance(node, ast.ClassDef):
@@ -241,6 +289,18 @@ class Form(unittest.TestCase):
             self.assertNotEqual(free, [], sorted(drawn))
             drawn = {name: others for name, others in drawn.items() if name not in free}
 
+    def test_no_name_is_a_method_in_one_class_and_a_value_in_another(self):
+        methods = set()
+        values = set()
+        for text in self.texts().values():
+            found = members(ast.parse(text))
+            methods |= found[0]
+            values |= found[1]
+        self.assertEqual(methods & values, set())
+        # Methods that the document tells for classes that are still to come.
+        told = "free number app look one mark back_to parts term ask plainly table why".split()
+        self.assertEqual(values & set(told), set())
+
     def test_what_is_out_is_seen(self):
         for text in (
             "import os", "from goaltrail import terms", "x = 1\nx = 2", "x = f()", "x = 1.5", "def f(*a):\n    pass",
@@ -250,6 +310,10 @@ class Form(unittest.TestCase):
             "def f(a):\n    return {k: 1 for k in a}", "def f(a):\n    return a.items()", "# the type of it",
             "def _f():\n    pass", "# " + "a" * 120, "x = '%'", "class C:\n    x = 1", "def f(a):\n    return f'{a + 1}'",
             "def f():\n" + "    pass\n" * 40, "# \u00e4", "def f():\n\tpass", "class C(A, B):\n    pass",
+            "def f(n):\n    return 10 ** n", "def f(a):\n    for b in a:\n        a.append(b)",
+            "def f(a):\n    for k, b in enumerate(a):\n        a[k] = b",
+            "def f(a):\n    try:\n        a()\n    except Exception:\n        pass",
+            "def f(a):\n    try:\n        a()\n    except KeyError:\n        raise",
         ):
             with self.subTest(text):
                 self.assertNotEqual(file_faults(text), [])

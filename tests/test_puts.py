@@ -3,29 +3,12 @@ import random
 import unittest
 
 from goaltrail.puts import parts_up_to, walked, written_out
-from tests.helper import A, B, C, NIL, X, assert_refused, cons, count_parts, listed, n, t, v
+from tests.helper import (
+    A, B, C, NIL, X, assert_refused, chain, cons, count_parts, doubled, listed, n, nested, plainly_put, t, v,
+)
 
 Y = v("Y")
 Z = v("Z")
-
-
-def chain(many, last):
-    """X0 to X1 to X2 .., the last one to a term."""
-    puts = {f"X{k}": v(f"X{k + 1}") for k in range(many - 1)}
-    puts[f"X{many - 1}"] = last
-    return puts
-
-
-def doubled(many):
-    """Each unknown put in for twice the next one: X0 reads with 2 ** (many + 1) - 1 parts."""
-    return {f"X{k}": t("f", v(f"X{k + 1}"), v(f"X{k + 1}")) for k in range(many)}
-
-
-def nested(many):
-    term = A
-    for again in range(many - 1):
-        term = t("f", term)
-    return term
 
 
 class LookedAt(dict):
@@ -203,7 +186,7 @@ class WrittenOut(unittest.TestCase):
                 if source.randrange(4):
                     puts[name] = self.some_term(source, names[place + 1:], 2)
             term = self.some_term(source, names, 2)
-            expected = self.plainly(term, puts)
+            expected = plainly_put(term, puts)
             many = count_parts(expected)
             self.assertEqual(parts_up_to(term, puts, 40), min(many, 41))
             self.assertEqual(parts_up_to(term, puts, 7), min(many, 8))
@@ -219,13 +202,6 @@ class WrittenOut(unittest.TestCase):
         if pick < 4:
             return (A, n(source.randrange(9)))[pick - 2]
         return t("f", *[self.some_term(source, names, depth - 1) for again in range(source.randrange(1, 4))])
-
-    def plainly(self, term, puts):
-        if term[0] == "any" and term[1] in puts:
-            return self.plainly(puts[term[1]], puts)
-        if term[0] == "app":
-            return t(term[1], *[self.plainly(kid, puts) for kid in term[2]])
-        return term
 
 
 class Everywhere(unittest.TestCase):
