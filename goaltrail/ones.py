@@ -1,6 +1,7 @@
 """Two terms made one by puttings-in, and a term matched to another one."""
 
 from goaltrail.puts import walked
+from goaltrail.switches import key_of
 
 
 # The kids of two apps that are being made one, and how many pairs of them were taken.
@@ -43,8 +44,8 @@ class Joining:
             return self.put_for(left[1], right)
         if right[0] == "any":
             return self.put_for(right[1], left)
-        if key_at(left) != key_at(right):
-            return ("part", self.path(), key_at(left), key_at(right))
+        if key_of(left) != key_of(right):
+            return ("part", self.path(), key_of(left), key_of(right))
         self.begin_kids(left, right)
         return None
 
@@ -65,12 +66,6 @@ class Joining:
     # The first row has just the whole terms.
     def path(self):
         return tuple([row.taken - 1 for row in self.rows[1:]])
-
-
-def key_at(term):
-    if term[0] == "app":
-        return ("app", term[1], len(term[2]))
-    return term
 
 
 # Each unknown on the way is looked into once, however often it stands there.
@@ -103,7 +98,7 @@ def matched(one, other, puts):
         if pair[0][0] == "any":
             if new.setdefault(pair[0][1], pair[1]) != pair[1]:
                 return None
-        elif key_at(pair[0]) != key_at(pair[1]):
+        elif key_of(pair[0]) != key_of(pair[1]):
             return None
         elif pair[0][0] == "app":
             kids = list(zip(pair[0][2], pair[1][2]))

@@ -1,5 +1,7 @@
 """What the tests share: terms written by hand, and how a refusal is looked at."""
 
+import sys
+
 from goaltrail import errors
 from goaltrail.reader import read, read_goals, read_rule
 from goaltrail.signs import first_signs
@@ -82,9 +84,74 @@ def plainly_put(term, puts):
     return term
 
 
+def stands_in(name, term):
+    return term == v(name) or (term[0] == "app" and any(stands_in(name, kid) for kid in term[2]))
+
+
+def first_difference(left, right, path=()):
+    """The first place, a kid's kids ahead of the next kid, at which two terms aren't the same."""
+    if left == right:
+        return None
+    if left[0] == right[0] == "app" and left[1] == right[1] and len(left[2]) == len(right[2]):
+        for place, kids in enumerate(zip(left[2], right[2])):
+            found = first_difference(kids[0], kids[1], path + (place,))
+            if found is not None:
+                return found
+    return (path, left, right)
+
+
+def told_of(term):
+    return term if term[0] == "num" else ("app", term[1], len(term[2]))
+
+
+def slowly_made_one(one, other, puts):
+    """As the document tells it, both terms being written out anew at each step."""
+    new = dict(puts)
+    while True:
+        found = first_difference(plainly_put(one, new), plainly_put(other, new))
+        if found is None:
+            return ("one", new)
+        path, left, right = found
+        if left[0] != "any" and right[0] != "any":
+            return ("part", path, told_of(left), told_of(right))
+        name, term = (left[1], right) if left[0] == "any" else (right[1], left)
+        if stands_in(name, term):
+            return ("ring", path, name)
+        new[name] = term
+
+
+def names_in(term):
+    """The names in a term, each as often as it stands there, from the left."""
+    if term[0] == "any":
+        return [term[1]]
+    return [name for kid in term[2] for name in names_in(kid)] if term[0] == "app" else []
+
+
+def called(term, names):
+    """A term with its unknowns called by other names."""
+    if term[0] == "any":
+        return v(names[term[1]])
+    return t(term[1], *[called(kid, names) for kid in term[2]]) if term[0] == "app" else term
+
+
 def count_parts(term):
     """How many parts a term has, counted in the plainest way."""
     return 1 + sum(count_parts(kid) for kid in term[2]) if term[0] == "app" else 1
+
+
+def called_within(many, call):
+    """What a call tells where it may go no deeper than so many calls."""
+    depth = 0
+    frame = sys._getframe()
+    while frame is not None:
+        depth += 1
+        frame = frame.f_back
+    before = sys.getrecursionlimit()
+    sys.setrecursionlimit(depth + many)
+    try:
+        return call()
+    finally:
+        sys.setrecursionlimit(before)
 
 
 def assert_refused(case, name, call, *arguments, row=0):

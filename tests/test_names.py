@@ -3,23 +3,10 @@ import random
 import unittest
 
 from goaltrail.names import alike, marked, told_anew, unknowns_of
-from tests.helper import A, B, NIL, X, cons, listed, n, nested, t, term_of, v
+from tests.helper import A, B, NIL, X, called, cons, listed, n, names_in, nested, t, term_of, v
 
 Y = v("Y")
 Z = v("Z")
-
-
-def names_in(term):
-    """The names in a term, each as often as it stands there, from the left."""
-    if term[0] == "any":
-        return [term[1]]
-    return [name for kid in term[2] for name in names_in(kid)] if term[0] == "app" else []
-
-
-def called(term, names):
-    if term[0] == "any":
-        return v(names[term[1]])
-    return t(term[1], *[called(kid, names) for kid in term[2]]) if term[0] == "app" else term
 
 
 def some_term(source, names, depth):

@@ -6,47 +6,13 @@ import unittest
 from goaltrail.ones import made_one, matched
 from goaltrail.puts import parts_up_to, walked, written_out
 from tests.helper import (
-    A, B, C, NIL, X, chain, cons, count_parts, doubled, listed, n, nested, plainly_put, t, term_of, v,
+    A, B, C, NIL, X, called_within, chain, cons, count_parts, doubled, listed, n, nested, plainly_put, slowly_made_one,
+    stands_in, t,
+    term_of, v,
 )
 
 Y = v("Y")
 Z = v("Z")
-
-
-def stands_in(name, term):
-    return term == v(name) or (term[0] == "app" and any(stands_in(name, kid) for kid in term[2]))
-
-
-def first_difference(left, right, path=()):
-    """The first place, a kid's kids ahead of the next kid, at which two terms aren't the same."""
-    if left == right:
-        return None
-    if left[0] == right[0] == "app" and left[1] == right[1] and len(left[2]) == len(right[2]):
-        for place, kids in enumerate(zip(left[2], right[2])):
-            found = first_difference(kids[0], kids[1], path + (place,))
-            if found is not None:
-                return found
-    return (path, left, right)
-
-
-def told_of(term):
-    return term if term[0] == "num" else ("app", term[1], len(term[2]))
-
-
-def slowly_made_one(one, other, puts):
-    """As the document tells it, both terms being written out anew at each step."""
-    new = dict(puts)
-    while True:
-        found = first_difference(plainly_put(one, new), plainly_put(other, new))
-        if found is None:
-            return ("one", new)
-        path, left, right = found
-        if left[0] != "any" and right[0] != "any":
-            return ("part", path, told_of(left), told_of(right))
-        name, term = (left[1], right) if left[0] == "any" else (right[1], left)
-        if stands_in(name, term):
-            return ("ring", path, name)
-        new[name] = term
 
 
 def slowly_matched(one, other, puts):
@@ -79,7 +45,8 @@ def some_puts(source, names):
     """Puttings-in by which no unknown comes to itself."""
     row = list(names)
     source.shuffle(row)
-    return {name: some_term(source, row[place + 1:], 1) for place, name in enumerate(row[:-1]) if source.randrange(3) == 0}
+    return {name: some_term(source, row[place + 1:], 1) for place,
+            name in enumerate(row[:-1]) if source.randrange(3) == 0}
 
 
 class OnesCase(unittest.TestCase):
@@ -346,6 +313,15 @@ class VeryManyParts(OnesCase):
         self.assertEqual(made_one(v("X0"), v("Y0"), told[1]), told)
         self.assertEqual(made_one(v("X0"), v("Y1"), puts), ("one", {**puts, "Y1500": puts["X1499"]}))
 
+    def test_without_deep_recursion(self):
+        puts = {**doubled(1500), **doubled(1500, "Y"), **{f"Z{k}": v(f"Z{k + 1}") for k in range(900)}}
+        for one, other in ((v("X0"), v("Y0")), (v("X1500"), t("g", v("X0"))), (v("Z0"), v("X0")),
+                           (nested(40), nested(40)),
+                           (v("Z0"), nested(40)), (v("Y0"), v("Z0"))):
+            self.assertEqual(called_within(120, lambda: made_one(one, other, puts)), made_one(one, other, puts))
+        for one, other in ((nested(40), nested(40)), (X, nested(40)), (nested(40), X)):
+            self.assertEqual(called_within(120, lambda: matched(one, other, {})), matched(one, other, {}))
+
     def test_a_ring_through_very_many_parts(self):
         puts = doubled(1500)
         self.assertEqual(made_one(v("X1500"), t("g", v("X0")), puts), ("ring", (), "X1500"))
@@ -443,7 +419,8 @@ class Matched(unittest.TestCase):
         for term in (A, n(5), NIL, t("f", A, n(-1)), listed(A, B)):
             self.assert_matched(term, term, {}, {})
             self.assert_matched(term, term, {"X": B}, {"X": B})
-        for one, other in ((A, B), (n(1), n(2)), (A, n(1)), (n(1), A), (t("f", A), t("g", A)), (t("f", A), t("f", A, A)),
+        for one, other in ((A, B), (n(1), n(2)), (A, n(1)), (n(1), A), (t("f", A), t("g", A)),
+                           (t("f", A), t("f", A, A)),
                            (t("f", A), t("f", B)), (NIL, listed(A)), (A, t("a", B)), (t("f", A, B), t("f", A, C))):
             self.assert_matched(one, other, {}, None)
             self.assert_matched(other, one, {}, None)

@@ -89,20 +89,24 @@ class Marks(ProgramCase):
             self.assert_program(text, {"^": (5, "right")}, [])
 
     def test_fewer_or_more_words(self):
-        for row in ("infix", "  infix  ", "infix ^", "infix ^ 5", "infix ^ 5 right left", "infix ^ 5 right 5", "infix ^5 right",
-                    "infix ^ 5right", "infix ^ 5 right <- a", "infix (a)", "infix <- a", "infix , a", "infix ^ 5 , right"):
+        for row in ("infix", "  infix  ", "infix ^", "infix ^ 5", "infix ^ 5 right left", "infix ^ 5 right 5",
+                    "infix ^5 right",
+                    "infix ^ 5right", "infix ^ 5 right <- a", "infix (a)", "infix <- a", "infix , a",
+                    "infix ^ 5 , right"):
             self.assert_wrong("NoSign", 1, row)
             self.assert_wrong("NoSign", 3, "a\n\n" + row + "\nb")
 
     def test_what_is_no_mark_or_stands_already(self):
-        for mark in ("<-", "a", "A", "+-+-", "^^^^", "_", "(", "[]", "5", "~", ",", "|", ".", "^a", "=", ":=", "<", "<=", "+",
+        for mark in ("<-", "a", "A", "+-+-", "^^^^", "_", "(", "[]", "5", "~", ",", "|", ".", "^a", "=", ":=", "<",
+                     "<=", "+",
                      "-", "*", "/", "/:", "infix", "\u00d7"):
             self.assert_wrong("NoSign", 1, f"infix {mark} 5 right")
         self.assert_wrong("NoSign", 2, "infix ^ 5 right\ninfix ^ 5 right")
         self.assert_wrong("NoSign", 3, "infix ^ 5 right\na\ninfix ^ 6 left")
 
     def test_what_is_no_rank(self):
-        for rank in ("0", "21", "22", "100", "05", "00", "005", "020", "~5", "~1", "-5", "+5", "5.0", "a", "X", "1a", "1_0", "five",
+        for rank in ("0", "21", "22", "100", "05", "00", "005", "020", "~5", "~1", "-5", "+5", "5.0", "a", "X", "1a",
+                     "1_0", "five",
                      "0x5", "\u0665", "\u00b2", "\uff15", "9" * 30, "9" * 31, "0" * 31, "1" * 5000, "(5)", "5,"):
             self.assert_wrong("NoSign", 1, f"infix ^ {rank} right")
 
@@ -138,7 +142,8 @@ class Marks(ProgramCase):
 
 class Refused(ProgramCase):
     def test_rows_that_can_not_be_read(self):
-        for row in ("p(", "p(a", "a b", "a <-", "<- a", "a <- b,", "a <- , b", "a, b", "f()", "_", "\t", "a\t", "\r", "a\r", "a ^ b",
+        for row in ("p(", "p(a", "a b", "a <-", "<- a", "a <- b,", "a <- , b", "a, b", "f()", "_", "\t", "a\t", "\r",
+                    "a\r", "a ^ b",
                     "abcdefghijklm", "p(a, b, c, d, e)", "05", "~0", "a <- b <- c", "a.",
                     "p(" + "f(" * 39 + "a" + ")" * 39 + ")", "\x0b", "\u2028", "a\x0cb"):
             self.assert_wrong("NoText", 1, row)
@@ -146,11 +151,14 @@ class Refused(ProgramCase):
             self.assert_wrong("NoText", 2, "a\n" + row + "\nb\n")
 
     def test_rows_that_are_no_rules(self):
-        for row in ("X", "5", "[]", "[a]", "a + b", "a = b", "a := 1", "1 < 2", "1 <= 2", "keep", "keep(a)", "not(a)", "not",
-                    "not(a, b)", "X <- a", "5 <- a", "keep <- a", "not(a) <- b", "a <- X", "a <- 5", "a <- []", "a <- b + c",
+        for row in ("X", "5", "[]", "[a]", "a + b", "a = b", "a := 1", "1 < 2", "1 <= 2", "keep", "keep(a)", "not(a)",
+                    "not",
+                    "not(a, b)", "X <- a", "5 <- a", "keep <- a", "not(a) <- b", "a <- X", "a <- 5", "a <- []",
+                    "a <- b + c",
                     "a <- keep(b)", "a <- not", "a <- not(b, c)", "a <- not(not(b))", "a <- not(keep)", "a <- not(X)",
                     "a <- not(b = c)", "a <- b, [c]", "a <- b, b, b, b, b, b, b",
-                    "f(" * 24 + "a" + ")" * 24, "a <- " + "f(" * 24 + "a" + ")" * 24, "a <- not(" + "f(" * 23 + "a" + ")" * 24):
+                    "f(" * 24 + "a" + ")" * 24, "a <- " + "f(" * 24 + "a" + ")" * 24,
+                    "a <- not(" + "f(" * 23 + "a" + ")" * 24):
             self.assert_wrong("NoRule", 1, row)
             self.assert_wrong("NoRule", 3, "\na\n" + row + "\nb")
 

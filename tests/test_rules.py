@@ -119,7 +119,8 @@ class Rule(unittest.TestCase):
 
     def test_parts_of_goals(self):
         for many, refused in ((24, False), (25, True), (40, True), (41, True)):
-            for goal in (nested(many), t("not", nested(many - 1)), t("=", nested(many - 2), X), t("=", X, nested(many - 2)),
+            for goal in (nested(many), t("not", nested(many - 1)), t("=", nested(many - 2), X),
+                         t("=", X, nested(many - 2)),
                          t("<", nested(many - 4), listed(A))):
                 self.assertEqual(count_parts(goal), many)
                 for goals in ([goal], [A, goal], [A, A, A, A, A, goal]):
