@@ -5,7 +5,7 @@ from goaltrail.names import marked, told_anew, unknowns_of
 from goaltrail.ones import Joining
 from goaltrail.puts import parts_up_to, written_out
 from goaltrail.rules import KEEP, NOT, is_named
-from goaltrail.sums import reckoned
+from goaltrail.sums import is_so, reckoned
 from goaltrail.terms import MOST_PARTS, num, unknown
 
 
@@ -127,9 +127,7 @@ class Run:
             return self.make_one(goal[2][0], goal[2][1])
         if sign == ":=":
             return self.make_one(goal[2][0], num(reckoned(goal[2][1])))
-        one = reckoned(goal[2][0])
-        other = reckoned(goal[2][1])
-        return one < other or (sign == "<=" and one == other)
+        return is_so(goal)
 
     # What is behind the not is left as a way, which is gone on with where its goal has no way.
     def ask_not(self, goal):

@@ -34,3 +34,10 @@ def checked_near(n):
     if abs(n) >= 10 ** 30:
         raise Fault("far")
     return n
+
+
+# Of a goal A < B or A <= B: whether it is so.
+def is_so(goal):
+    left = reckoned(goal[2][0])
+    right = reckoned(goal[2][1])
+    return left < right or (goal[1] == "<=" and left == right)

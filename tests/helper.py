@@ -1,5 +1,6 @@
 """What the tests share: terms written by hand, and how a refusal is looked at."""
 
+import random
 import sys
 
 from goaltrail import errors
@@ -27,6 +28,12 @@ A = t("a")
 B = t("b")
 C = t("c")
 X = v("X")
+
+LISTS = ("app([], L, L)", "app([H | T], L, [H | R]) <- app(T, L, R)", "in(X, [X | T])", "in(X, [Y | T]) <- in(X, T)")
+FAMILY = ("child(ann, bob)", "child(ann, cat)", "child(bob, dan)", "child(cat, eve)", "child(cat, fay)",
+          "grand(X, Z) <- child(X, Y), child(Y, Z)", "below(X, Y) <- child(X, Y)",
+          "below(X, Z) <- child(X, Y), below(Y, Z)")
+FACTS = ("p(a)", "p(b)", "p(c)", "s", "q(b)", "q(c)")
 
 
 def cons(*things):
@@ -104,20 +111,24 @@ def told_of(term):
     return term if term[0] == "num" else ("app", term[1], len(term[2]))
 
 
-def slowly_made_one(one, other, puts):
-    """As the document tells it, both terms being written out anew at each step."""
-    new = dict(puts)
+def slowly_joined(one, other, puts):
+    """As the document tells it, both terms being written out anew at each step: puts in, in place."""
     while True:
-        found = first_difference(plainly_put(one, new), plainly_put(other, new))
+        found = first_difference(plainly_put(one, puts), plainly_put(other, puts))
         if found is None:
-            return ("one", new)
+            return None
         path, left, right = found
         if left[0] != "any" and right[0] != "any":
             return ("part", path, told_of(left), told_of(right))
         name, term = (left[1], right) if left[0] == "any" else (right[1], left)
         if stands_in(name, term):
             return ("ring", path, name)
-        new[name] = term
+        puts[name] = term
+
+
+def slowly_made_one(one, other, puts):
+    new = dict(puts)
+    return slowly_joined(one, other, new) or ("one", new)
 
 
 def names_in(term):
@@ -137,6 +148,96 @@ def called(term, names):
 def count_parts(term):
     """How many parts a term has, counted in the plainest way."""
     return 1 + sum(count_parts(kid) for kid in term[2]) if term[0] == "app" else 1
+
+
+def slowly_anew(terms):
+    found = dict.fromkeys(name for term in terms for name in names_in(term))
+    names = {name: f"U{k + 1}" for k, name in enumerate(found)}
+    return [called(term, names) for term in terms]
+
+
+def slow_sum(term):
+    if term[0] == "any":
+        return "open"
+    if term[0] == "num":
+        return term[1]
+    if term[1] not in ("+", "-", "*", "/", "/:"):
+        return "kind"
+    left = slow_sum(term[2][0])
+    right = slow_sum(term[2][1]) if not isinstance(left, str) else left
+    if isinstance(right, str):
+        return right
+    if term[1] in ("/", "/:") and right == 0:
+        return "nought"
+    told = {"+": left + right, "-": left - right, "*": left * right,
+            "/": right and left // right, "/:": right and left % right}[term[1]]
+    return told if abs(told) < 10 ** 30 else "far"
+
+
+class Chance:
+    """Programs and questions made by chance of a fixed seed, with goals of every kind."""
+
+    WORDS = (("p", 1), ("q", 1), ("r", 2), ("s", 0), ("t", 1))
+    NAMES = ("X", "Y", "Z")
+
+    def __init__(self, seed, keeps=True):
+        self.source = random.Random(seed)
+        self.keeps = keeps
+
+    def pick(self, *things):
+        return self.source.choice(things)
+
+    def under(self, many):
+        return self.source.randrange(many)
+
+    def term(self, depth):
+        sort = self.under(10 if depth else 8)
+        if sort < 4:
+            return v(self.pick(*self.NAMES))
+        if sort < 6:
+            return self.pick(A, B)
+        if sort < 8:
+            return n(self.under(3))
+        return t("f", *[self.term(depth - 1) for again in range(self.pick(1, 2))])
+
+    def sum(self):
+        sort = self.under(6)
+        if sort < 3:
+            return n(self.under(4))
+        if sort == 3:
+            return v(self.pick(*self.NAMES))
+        return t(self.pick("+", "-", "/"), self.sum(), n(self.under(3)))
+
+    def named(self, ground=False):
+        word, many = self.pick(*self.WORDS)
+        return t(word, *[self.pick(A, B, n(0), n(1)) if ground else self.term(1) for again in range(many)])
+
+    def goal(self):
+        sort = self.under(20)
+        if sort == 11 and self.keeps:
+            return t("keep")
+        if sort < 12:
+            return self.named()
+        if sort < 15:
+            return t("not", self.named(self.under(5) > 0))
+        if sort < 17:
+            return t("=", self.term(1), self.term(2))
+        if sort == 17:
+            return t(":=", self.term(0), self.sum())
+        return t(self.pick("<", "<="), n(self.under(3)), self.sum())
+
+    def rules(self):
+        rules = [(self.named(True), ()) for again in range(self.under(6))]
+        for again in range(2 + self.under(8)):
+            many = self.pick(0, 0, 1, 1, 2, 3)
+            rules.append((self.named(), tuple(self.goal() for more in range(many))))
+        if self.under(4) == 0:
+            rules.extend(rules_of("r(X, f(X, X))", "p(X) <- r(X, Y), p(Y)"))
+        self.source.shuffle(rules)
+        return rules
+
+    def question(self):
+        return [self.goal() for again in range(self.pick(0, 1, 1, 2, 2, 3, 4))]
 
 
 def called_within(many, call):

@@ -1,29 +1,16 @@
 import copy
-import random
 import unittest
 
 from goaltrail.search import search
 from goaltrail.signs import first_signs
 from goaltrail.writer import shown
 from tests.helper import (
-    A, B, X, called, called_within, count_parts, goals_of, n, names_in, nested, plainly_put, rules_of, slowly_made_one,
-    t, term_of, v,
+    A, B, FACTS, FAMILY, LISTS, X, Chance, called, called_within, count_parts, goals_of, n, names_in, nested,
+    plainly_put, rules_of, slow_sum, slowly_anew, slowly_made_one, t, term_of, v,
 )
-
-LISTS = ("app([], L, L)", "app([H | T], L, [H | R]) <- app(T, L, R)", "in(X, [X | T])", "in(X, [Y | T]) <- in(X, T)")
-FAMILY = ("child(ann, bob)", "child(ann, cat)", "child(bob, dan)", "child(cat, eve)", "child(cat, fay)",
-          "grand(X, Z) <- child(X, Y), child(Y, Z)", "below(X, Y) <- child(X, Y)",
-          "below(X, Z) <- child(X, Y), below(Y, Z)")
-FACTS = ("p(a)", "p(b)", "p(c)", "s", "q(b)", "q(c)")
 
 
 # A searcher of its own, by the document's words and in the plainest way: for the tests alone.
-
-def slowly_anew(terms):
-    found = dict.fromkeys(name for term in terms for name in names_in(term))
-    names = {name: f"U{k + 1}" for k, name in enumerate(found)}
-    return [called(term, names) for term in terms]
-
 
 class Ended(Exception):
     pass
@@ -31,24 +18,6 @@ class Ended(Exception):
 
 class LetGo(Exception):
     """All ways are let go that were left since this goal was taken up."""
-
-
-def slow_sum(term):
-    if term[0] == "any":
-        return "open"
-    if term[0] == "num":
-        return term[1]
-    if term[1] not in ("+", "-", "*", "/", "/:"):
-        return "kind"
-    left = slow_sum(term[2][0])
-    right = slow_sum(term[2][1]) if not isinstance(left, str) else left
-    if isinstance(right, str):
-        return right
-    if term[1] in ("/", "/:") and right == 0:
-        return "nought"
-    told = {"+": left + right, "-": left - right, "*": left * right,
-            "/": right and left // right, "/:": right and left % right}[term[1]]
-    return told if abs(told) < 10 ** 30 else "far"
 
 
 class SlowSearch:
@@ -683,64 +652,13 @@ class Answers(SearchCase):
 
 
 class BesideASlowOne(SearchCase):
-    WORDS = (("p", 1), ("q", 1), ("r", 2), ("s", 0), ("t", 1))
-    NAMES = ("X", "Y", "Z")
-
-    def some_term(self, source, depth):
-        pick = source.randrange(10) if depth else source.randrange(8)
-        if pick < 4:
-            return v(source.choice(self.NAMES))
-        if pick < 6:
-            return source.choice((A, B))
-        if pick < 8:
-            return n(source.randrange(3))
-        return t("f", *[self.some_term(source, depth - 1) for again in range(source.randrange(1, 3))])
-
-    def some_sum(self, source):
-        pick = source.randrange(6)
-        if pick < 3:
-            return n(source.randrange(4))
-        if pick == 3:
-            return v(source.choice(self.NAMES))
-        return t(source.choice(("+", "-", "/")), self.some_sum(source), n(source.randrange(3)))
-
-    def named(self, source, ground=False):
-        word, many = source.choice(self.WORDS)
-        kids = [source.choice((A, B, n(0), n(1))) if ground else self.some_term(source, 1) for again in range(many)]
-        return t(word, *kids)
-
-    def some_goal(self, source):
-        pick = source.randrange(20)
-        if pick < 11:
-            return self.named(source)
-        if pick == 11:
-            return t("keep")
-        if pick < 15:
-            return t("not", self.named(source, source.randrange(5) > 0))
-        if pick < 17:
-            return t("=", self.some_term(source, 1), self.some_term(source, 2))
-        if pick == 17:
-            return t(":=", self.some_term(source, 0), self.some_sum(source))
-        return t(source.choice(("<", "<=")), n(source.randrange(3)), self.some_sum(source))
-
-    def some_rules(self, source):
-        rules = [(self.named(source, True), ()) for again in range(source.randrange(6))]
-        for again in range(source.randrange(2, 10)):
-            many = source.choice((0, 0, 1, 1, 2, 3))
-            rules.append((self.named(source), tuple(self.some_goal(source) for more in range(many))))
-        if source.randrange(4) == 0:
-            rules.extend(rules_of("r(X, f(X, X))", "p(X) <- r(X, Y), p(Y)"))
-        source.shuffle(rules)
-        return rules
-
     def test_some_programs(self):
-        source = random.Random(51)
+        chance = Chance(51)
         ends = {}
         kept = 0
         for again in range(5000):
-            rules = self.some_rules(source)
-            goals = [self.some_goal(source) for more in range(source.choice((0, 1, 1, 2, 2, 3, 4)))]
-            bound, most = source.choice((0, 1, 2, 3, 5, 8, 20, 40)), source.choice((1, 2, 3, 10))
+            rules, goals = chance.rules(), chance.question()
+            bound, most = chance.pick(0, 1, 2, 3, 5, 8, 20, 40), chance.pick(1, 2, 3, 10)
             told = search(rules, goals, bound, most)
             self.assertEqual(told, slowly_searched(rules, goals, bound, most), (rules, goals, bound, most))
             self.assert_form(told)
