@@ -1,12 +1,7 @@
 """Layers: words by what they lean on, so that a not looks only at what lies beneath."""
 
 from goaltrail.errors import NotLayered
-from goaltrail.rules import NOT, is_named
-
-
-# A word with its number of kids.
-def word_of(goal):
-    return (goal[1], len(goal[2]))
+from goaltrail.rules import NOT, is_named, word_of
 
 
 # Tuples (one, other, steps): the one leans on the other, and lies so many layers above it at

@@ -1,7 +1,7 @@
 """Code made of rules and questions: rows that work on cells and slots."""
 
 from goaltrail.names import unknowns_of
-from goaltrail.rules import KEEP, NOT, is_named
+from goaltrail.rules import KEEP, NOT, is_named, word_of
 from goaltrail.switches import switch_of
 
 MARK_ROWS = {"=": "equal", ":=": "reckon", "<": "less", "<=": "atmost"}
@@ -101,7 +101,7 @@ def code_of(rules):
     codes = {}
     heads = {}
     for place, rule in enumerate(rules):
-        key = (rule[0][1], len(rule[0][2]))
+        key = word_of(rule[0])
         codes.setdefault(key, []).append(rule_code(place + 1, rule))
         heads.setdefault(key, []).append(rule[0])
     found = {}

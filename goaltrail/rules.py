@@ -1,6 +1,7 @@
 """Which terms are goals, and rules and questions made of them."""
 
-from goaltrail.errors import NoRule
+from goaltrail.errors import HasKeep, NoRule
+from goaltrail.names import told_anew
 from goaltrail.terms import is_word, parts
 
 KEEP = "keep"
@@ -51,3 +52,24 @@ def rule(head, goals):
 def question(goals):
     check_goals(goals)
     return list(goals)
+
+
+def check_no_keep(rules):
+    for told in rules:
+        if KEEP in [goal[1] for goal in told[1]]:
+            raise HasKeep("a rule has a keep")
+
+
+# A goal's word with its number of kids.
+def word_of(goal):
+    return (goal[1], len(goal[2]))
+
+
+# The rules of each word and number of kids, in their order: their numbers, heads and goals. All
+# are told anew, so that marking them makes their unknowns new ones, whatever they were called.
+def by_word(rules):
+    found = {}
+    for place, told in enumerate(rules):
+        terms = told_anew([told[0]] + list(told[1]))
+        found.setdefault(word_of(terms[0]), []).append((place + 1, terms[0], terms[1:]))
+    return found

@@ -4,13 +4,13 @@ from goaltrail.errors import Big, Fault
 from goaltrail.names import marked, told_anew, unknowns_of
 from goaltrail.ones import Joining
 from goaltrail.puts import parts_up_to, written_out
-from goaltrail.rules import KEEP, NOT, is_named
+from goaltrail.rules import KEEP, NOT, by_word, is_named, word_of
 from goaltrail.sums import is_so, reckoned
 from goaltrail.terms import MOST_PARTS, num, unknown
 
 
-# A way that was left: a goal with the rules it has still to try; or, without a goal, what is
-# behind a not. The rest is how the run stood when the goal or the not was taken up.
+# A way that was left: a goal with the rules it has still to try; or, without rules, what is
+# behind a not of the goal. The rest is how the run stood when the goal or the not was taken up.
 class Way:
     def __init__(self, goal, rules, todo, numbers, noted_then):
         self.goal = goal
@@ -23,7 +23,8 @@ class Way:
 # What is to be asked is a list of pairs: a goal, and how many ways were left when the goal was
 # taken up to whose rule it belongs (0 in a question). None as a goal is the end of a not's goal.
 # The unknowns of question and rules are told anew, and those of a rule are marked each time: so
-# they are new ones, whatever names were handed in.
+# they are new ones, whatever names were handed in. Of each goal that was asked within a not it is
+# noted by which way it held, or None where by none: as it has no unknowns, this is always the same.
 class Run:
     def __init__(self, rules, goals, bound, most):
         self.rules = by_word(rules)
@@ -36,6 +37,7 @@ class Run:
         self.puts = {}
         self.noted = []
         self.left = []
+        self.nots = {}
         self.uses = 0
         self.count = 0
         self.answers = []
@@ -48,9 +50,14 @@ class Run:
         first = self.todo[0]
         self.todo = self.todo[1:]
         if first[0] is None:
-            self.left = self.left[:first[1]]
-            return False
+            return self.end_not(first[1])
         return self.take_up(first[0], first[1])
+
+    def end_not(self, height):
+        begun = self.left[height]
+        self.nots[begun.goal] = self.numbers[len(begun.numbers):]
+        self.left = self.left[:height]
+        return False
 
     def go_back(self):
         if not self.left:
@@ -60,7 +67,10 @@ class Run:
             self.puts.pop(self.noted.pop())
         self.todo = last.todo
         self.numbers = last.numbers
-        return last.goal is None or self.try_rule(last)
+        if last.rules:
+            return self.try_rule(last)
+        self.nots[last.goal] = None
+        return True
 
     def end_with(self, end):
         self.end = end
@@ -96,7 +106,7 @@ class Run:
 
     # All its rules are left as ways, so the way falls to the first of them.
     def ask_rules(self, goal):
-        found = self.rules.get((goal[1], len(goal[2])), [])
+        found = self.rules.get(word_of(goal), [])
         if found:
             self.leave(goal, found)
         return False
@@ -134,22 +144,12 @@ class Run:
         if unknowns_of([goal]):
             raise Fault("open")
         height = len(self.left)
-        self.leave(None, [])
+        self.leave(goal, [])
         self.todo = [(goal, height), (None, height)]
         return True
 
     def make_one(self, one, other):
         return Joining(self.puts, self.noted).join_terms(one, other) is None
-
-
-# The rules of each word and number of kids: their numbers, heads and goals, in their order.
-def by_word(rules):
-    found = {}
-    for place, told in enumerate(rules):
-        terms = told_anew([told[0]] + list(told[1]))
-        key = (terms[0][1], len(terms[0][2]))
-        found.setdefault(key, []).append((place + 1, terms[0], terms[1:]))
-    return found
 
 
 def parts_together(terms, puts):
@@ -159,9 +159,15 @@ def parts_together(terms, puts):
     return count
 
 
-def search(rules, goals, bound=200, most=10):
+# The whole run, as it stands at its end.
+def searched(rules, goals, bound, most):
     run = Run(rules, goals, bound, most)
     going = True
     while run.end is None:
         going = run.go_on() if going else run.go_back()
+    return run
+
+
+def search(rules, goals, bound=200, most=10):
+    run = searched(rules, goals, bound, most)
     return (run.answers, run.end, run.count)

@@ -6,6 +6,7 @@ import sys
 from goaltrail import errors
 from goaltrail.reader import read, read_goals, read_rule
 from goaltrail.signs import first_signs
+from goaltrail.writer import shown
 
 REFUSALS = ("NoText", "NoSign", "NoRule", "Big", "HasKeep", "NotLayered", "Fault")
 
@@ -60,6 +61,15 @@ def rules_of(*texts):
     """Rules as they are told for the searcher: tuples of a head and a tuple of goals."""
     told = [read_rule(text, first_signs()) for text in texts]
     return [(head, tuple(goals)) for head, goals in told]
+
+
+def program_text(rules, signs, marks):
+    """A program's text: the rows that tell these marks ahead, then the rules."""
+    rows = [f"infix {mark} {signs[mark][0]} {signs[mark][1]}" for mark in marks]
+    for head, goals in rules:
+        told = " <- " + ", ".join(shown(goal, signs) for goal in goals) if goals else ""
+        rows.append(shown(head, signs) + told)
+    return "\n".join(rows)
 
 
 def nested(many):

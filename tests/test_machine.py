@@ -232,7 +232,8 @@ class BesideTheSearcher(unittest.TestCase):
                          "odd(N) <- 0 < N, M := N - 1, not(odd(M))", "one(X) <- in(X, [4, 5, 6]), keep, odd(X)")
         code = code_of(rules)
         for text in ("rev([1, 2, 3, 4], X)", "rev(X, [1, 2])", "below(X, Y), not(grand(X, Y))",
-                     "in(X, [1, 2, 3]), odd(X)", "app(X, Y, [1, 2, 3]), rev(X, Y)", "app(X, X, Y)", "in(X, [5, 4]), one(Y), Z := X + a"):
+                     "in(X, [1, 2, 3]), odd(X)", "app(X, Y, [1, 2, 3]), rev(X, Y)", "app(X, X, Y)",
+                     "in(X, [5, 4]), one(Y), Z := X + a"):
             goals = goals_of(text)
             for bound in list(range(30)) + [100, 200, 399, 400]:
                 for most in (1, 2, 7, 40):

@@ -2,7 +2,7 @@ import copy
 import unittest
 
 from goaltrail.terms import app, is_mark, is_name, is_word, items_of, list_of, num, parts, unknown
-from tests.helper import A, B, C, NIL, X, cons, listed, n, t, v
+from tests.helper import A, B, C, NIL, X, cons, listed, n, t
 
 SMALL = "abcdefghijklmnopqrstuvwxyz"
 GREAT = SMALL.upper()
